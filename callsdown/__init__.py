@@ -1,0 +1,1 @@
+"""Calling trees for any number of people."""

@@ -1,0 +1,33 @@
+import importlib
+import inspect
+import unittest
+
+INTERFACE = {
+    "errors": {
+        "BadRule": ("part",), "BadPaper": ("part",), "BadText": ("line",), "OutOfPlace": ("text",),
+        "TooGreat": ("most",), "Nothing": ("text",), "BadKind": ("part",),
+    },
+    "steps": {
+        "need_rule": ("thing",), "tick_of": ("rule", "absent", "person"), "callers": ("rule", "absent", "person"),
+        "last_tick": ("rule", "absent", "people"),
+    },
+    "losses": {
+        "is_safe": ("rule", "away"), "strength": ("rule",), "lost": ("rule", "away"), "safe_paper": ("rule", "away"),
+        "check_safe": ("rule", "away", "paper"),
+    },
+}
+
+
+class Interface(unittest.TestCase):
+    def test_each_name_is_defined_in_its_file_with_its_arguments(self):
+        for file, names in INTERFACE.items():
+            module = importlib.import_module("callsdown." + file)
+            for name, arguments in names.items():
+                with self.subTest(file=file, name=name):
+                    thing = getattr(module, name)
+                    self.assertEqual(thing.__module__, module.__name__)
+                    self.assertEqual(tuple(inspect.signature(thing).parameters), arguments)
+
+
+if __name__ == "__main__":
+    unittest.main()
