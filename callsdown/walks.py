@@ -6,6 +6,11 @@ no number; LAST is the greatest tick so far.
 """
 
 
+def first_window(reach):
+    """The window behind the person 0."""
+    return (None,) * (reach - 1) + (0,)
+
+
 def called_at(rule, window):
     """The least tick of a call to the person behind the window, or None."""
     calls = [window[-step] + place for place, step in enumerate(rule, start=1) if window[-step] is not None]
@@ -14,13 +19,19 @@ def called_at(rule, window):
 
 def state_behind(rule, absent, people):
     """The state behind the people 0 to people - 1, at least one."""
-    state = ((None,) * (max(rule) - 1) + (0,), 0)
+    state = (first_window(max(rule)), 0)
     person = 1
     for gone in absent:
         if gone < people:
             state = _behind_person(_behind_many(rule, state, gone - person), None)
             person = gone + 1
     return _behind_many(rule, state, people - person)
+
+
+def low_and_shape(window):
+    """The least tick of the window, or 0, and the window with each tick less by so much."""
+    low = min([tick for tick in window if tick is not None], default=0)
+    return low, _later(window, -low)
 
 
 def _behind_person(state, tick):
@@ -43,8 +54,7 @@ def _behind_many(rule, state, count):
     seen = {}
     left = count
     while left > 0:
-        base = min([tick for tick in state[0] if tick is not None], default=0)
-        shape = _later(state[0], -base)
+        base, shape = low_and_shape(state[0])
         if shape in seen:
             start, low = seen[shape]
             return _behind_rounds(rule, state, left, start - left, base - low)

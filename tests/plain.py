@@ -20,6 +20,17 @@ def all_absences(greatest, most=4):
 
 
 def told_ticks(rule, absent, people):
+    """A dict of the ticks at which those below people are told by a LINE RULE."""
+    return told_by_calls(lambda person: [person + step for step in rule], absent, people)
+
+
+def told_scaled(scaled, people):
+    """A dict of the ticks at which those below people are told by a SCALED RULE."""
+    scale, adds = scaled
+    return told_by_calls(lambda person: [scale * person + add for add in adds], (), people)
+
+
+def told_by_calls(called, absent, people):
     """A dict of the ticks at which those below people are told: the calls are made, tick by tick."""
     told = {}
     calls = {0: [0]}
@@ -28,10 +39,21 @@ def told_ticks(rule, absent, people):
         for person in calls.pop(tick, []):
             if person < people and person not in absent and person not in told:
                 told[person] = tick
-                for place, step in enumerate(rule):
-                    calls.setdefault(tick + place + 1, []).append(person + step)
+                for place, other in enumerate(called(person), start=1):
+                    if other != person:
+                        calls.setdefault(tick + place, []).append(other)
         tick += 1
     return told
+
+
+def all_adds(scale, many, greatest=20):
+    """All SCALED RULES of that D with so many ADDS up to the greatest one, in ascending order."""
+    return [(scale, adds) for adds in combinations(range(greatest + 1), many)]
+
+
+def back(scaled):
+    """The BACK of a SCALED RULE."""
+    return max(scaled[1]) // (scaled[0] - 1)
 
 
 class FarTicks:

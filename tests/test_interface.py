@@ -15,6 +15,18 @@ INTERFACE = {
         "is_safe": ("rule", "away"), "strength": ("rule",), "lost": ("rule", "away"), "safe_paper": ("rule", "away"),
         "check_safe": ("rule", "away", "paper"),
     },
+    "latest": {
+        "latest": ("rule", "away", "people"), "latest_absence": ("rule", "away", "people"), "growth": ("rule",),
+    },
+    "scales": {
+        "need_scaled": ("thing",), "tick_at": ("scaled", "person"), "caller_of": ("scaled", "person"),
+        "first_never": ("scaled",), "full_paper": ("scaled",), "check_full": ("scaled", "paper"), "is_plain": ("scaled",),
+        "last_at": ("scaled", "people"), "many_told": ("scaled", "people"),
+    },
+    "likes": {"part_line": ("rule", "other"), "part_scaled": ("scaled", "other")},
+    "shapes": {
+        "need_kind": ("thing",), "is_lot": ("people", "value"), "most_told": ("calls", "ticks"), "sizes": ("kind", "count"),
+    },
 }
 
 
