@@ -39,7 +39,7 @@ def ticks_of(scaled, people):
 
 def told_bits(scaled, count):
     """For each number below count whether it is TOLD: 1 or 0."""
-    ticks = ticks_of(scaled, range(count))
+    ticks = ticks_of(scaled, list(range(count)))
     return [0 if ticks[person] is None else 1 for person in range(count)]
 
 

@@ -14,6 +14,9 @@ BUILTINS = set(
 )
 EVERY_BUILTIN = set(dir(__builtins__) if not isinstance(__builtins__, dict) else __builtins__)
 AT_MODULE_LEVEL = (ast.Import, ast.ImportFrom, ast.FunctionDef, ast.ClassDef, ast.Assign)
+WALKED = ("range", "zip", "enumerate", "reversed")
+VIEWS = ("items", "keys", "values")
+WALKERS = ("list", "tuple", "dict", "sorted", "sum", "any", "all", "min", "max")
 BARRED = (ast.Global, ast.AsyncFunctionDef, ast.Await, ast.Div, ast.Set) + ((ast.TryStar,) if hasattr(ast, "TryStar") else ())
 
 
@@ -21,6 +24,28 @@ def files():
     """Each file of the package: its path, its text, and its tree."""
     found = sorted(path for path in PACKAGE.rglob("*") if path.is_file() and path.suffix != ".pyc")
     return [(path, path.read_text("utf-8"), ast.parse(path.read_text("utf-8"))) for path in found]
+
+
+def walked_name(node):
+    """What the call gives that is to be walked on the spot, or None."""
+    if isinstance(node, ast.Call) and isinstance(node.func, ast.Name) and node.func.id in WALKED:
+        return node.func.id
+    if isinstance(node, ast.Call) and isinstance(node.func, ast.Attribute) and node.func.attr in VIEWS and not node.args:
+        return node.func.attr
+    return None
+
+
+def walks_at_once(parent, node):
+    """Whether the node stands in its parent where it is walked on the spot."""
+    if isinstance(parent, (ast.For, ast.comprehension)):
+        return parent.iter is node
+    if isinstance(parent, ast.Compare):
+        return isinstance(parent.ops[0], (ast.In, ast.NotIn)) and parent.left is not node
+    if isinstance(parent, ast.Call) and isinstance(parent.func, ast.Name) and node in parent.args:
+        if parent.func.id in ("len", "reversed"):
+            return walked_name(node) == "range"
+        return parent.func.id in ("enumerate", "zip") or parent.func.id in WALKERS and parent.args[0] is node
+    return False
 
 
 class Language(unittest.TestCase):
@@ -68,6 +93,16 @@ class Language(unittest.TestCase):
                     self.assertIsInstance(node.ctx, ast.Load, (path.name, node.lineno))
                 if isinstance(node, ast.arg):
                     self.assertNotIn(node.arg, EVERY_BUILTIN, (path.name, node.lineno))
+
+    def test_ranges_and_their_kin_are_walked_on_the_spot(self):
+        walked = 0
+        for path, _, tree in files():
+            for parent in ast.walk(tree):
+                for node in ast.iter_child_nodes(parent):
+                    if walked_name(node):
+                        walked += 1
+                        self.assertTrue(walks_at_once(parent, node), (path.name, node.lineno))
+        self.assertGreater(walked, 10)
 
 
 if __name__ == "__main__":
