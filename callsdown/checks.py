@@ -4,12 +4,18 @@ from callsdown.errors import OutOfPlace
 
 MOST_NUMBER = 10 ** 30
 MOST_MISSING = 4
+MOST_LOT = 3
+
+
+def is_integer(thing):
+    """Whether the thing is an integer."""
+    # True and False are ints for Python, and no integers here.
+    return isinstance(thing, int) and not isinstance(thing, bool)
 
 
 def is_number(thing, low, high):
     """Whether the thing is an integer from low to high."""
-    # True and False are ints for Python, and no integers here.
-    return isinstance(thing, int) and not isinstance(thing, bool) and low <= thing <= high
+    return is_integer(thing) and low <= thing <= high
 
 
 def is_ascending(things):
@@ -51,3 +57,21 @@ def need_people(people):
     """OutOfPlace of what is no number of people."""
     if not is_number(people, 1, MOST_NUMBER):
         raise OutOfPlace("people is no integer from 1 to 10 ** 30")
+
+
+def need_lot(people, lot):
+    """OutOfPlace of what is no LOT of so many people."""
+    if not is_row(lot, MOST_LOT, 1, people - 1):
+        raise OutOfPlace("lot is no ascending tuple of at most 3 of the people, without 0")
+
+
+def need_one_of(people, person):
+    """OutOfPlace of what is none of so many people."""
+    if not is_number(person, 0, people - 1):
+        raise OutOfPlace("person is none of the people")
+
+
+def need_missing(missing, most):
+    """OutOfPlace of what is no number of people, at most so many, who may be MISSING."""
+    if not is_number(missing, 0, most):
+        raise OutOfPlace(f"missing is no integer from 0 to {most}")

@@ -1,12 +1,11 @@
 """KINDS of trees that hand on: their PARTS, and LOTS of missing people."""
 
-from callsdown.checks import MOST_NUMBER, is_number, is_row, need_people
+from callsdown.checks import MOST_LOT, MOST_NUMBER, is_number, is_row, need_people
 from callsdown.errors import BadKind, OutOfPlace
 
 WORDS = ("parts", "half", "best", "heap")
 LEAST_PARTS = 2
 MOST_PARTS = 8
-MOST_LOT = 3
 MOST_TICKS = 200
 
 
@@ -33,14 +32,27 @@ def is_lot(people, value):
 
 def most_told(calls, ticks):
     """MOST of so many ticks for at most so many calls, or None: without bound."""
-    if calls is not None and not is_number(calls, LEAST_PARTS, MOST_PARTS):
-        raise OutOfPlace("calls is no integer from 2 to 8, and not None")
+    need_calls(calls)
     if not is_number(ticks, 0, MOST_TICKS):
         raise OutOfPlace("ticks is no integer from 0 to 200")
     mosts = [1]
     for _ in range(ticks):
         mosts.append(_most_behind(calls, mosts))
     return mosts[-1]
+
+
+def need_calls(calls):
+    """OutOfPlace of what is no greatest number of calls, nor None."""
+    if calls is not None and not is_number(calls, LEAST_PARTS, MOST_PARTS):
+        raise OutOfPlace("calls is no integer from 2 to 8, and not None")
+
+
+def mosts_to(calls, people):
+    """MOST of each tick from 0 on, up to the first that is at least so many people."""
+    mosts = [1]
+    while mosts[-1] < people:
+        mosts.append(_most_behind(calls, mosts))
+    return mosts
 
 
 def sizes(kind, count):
@@ -83,9 +95,7 @@ def _half_parts(count):
 
 def _best_parts(calls, count):
     """The sizes of PARTS that have as many as can be told in the ticks that are left to each."""
-    mosts = [1]
-    while mosts[-1] < count + 1:
-        mosts.append(_most_behind(calls, mosts))
+    mosts = mosts_to(calls, count + 1)
     parts = []
     left = count
     # With the greatest MOST ahead the ones before it suffice: at most so many calls are made.

@@ -27,6 +27,16 @@ INTERFACE = {
     "shapes": {
         "need_kind": ("thing",), "is_lot": ("people", "value"), "most_told": ("calls", "ticks"), "sizes": ("kind", "count"),
     },
+    "ticks": {
+        "told_at": ("kind", "people", "lot", "person"), "called_by": ("kind", "people", "lot", "person"),
+        "calls_of": ("kind", "people", "lot", "person"), "last_tick": ("kind", "people", "lot"),
+    },
+    "worst": {
+        "worst_tick": ("kind", "people", "missing"), "worst_lot": ("kind", "people", "missing"),
+        "worst_paper": ("kind", "people", "missing"), "check_worst": ("kind", "people", "missing", "paper"),
+    },
+    "best": {"least_tick": ("people", "calls"), "is_best": ("kind", "people"), "best_kinds": ("people",)},
+    "backs": {"back_tick": ("kind", "people", "lot"), "ready_at": ("kind", "people", "lot", "person")},
 }
 
 

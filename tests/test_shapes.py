@@ -4,54 +4,12 @@ from itertools import combinations
 
 from callsdown.errors import OutOfPlace
 from callsdown.shapes import is_lot, most_told, need_kind, sizes
+from tests.plain_trees import KINDS, most, parted
 from tests.wrong import BAD_KINDS, BAD_PEOPLE, FAR, NO_NUMBERS, refuse, refuse_each
 
-KINDS = [("half",)] + [(word, number) for word in ("parts", "best", "heap") for number in range(2, 9)]
 NO_CALLS = [(thing, OutOfPlace, None) for thing in NO_NUMBERS if thing is not None] + [
     (thing, OutOfPlace, None) for thing in (0, 1, 9, 10, FAR)]
 NO_TICKS = [(thing, OutOfPlace, None) for thing in NO_NUMBERS + [201, 202, FAR]]
-
-
-def most(calls, ticks):
-    """MOST by its own sum, each one from those ahead."""
-    mosts = [1]
-    while len(mosts) <= ticks:
-        at = len(mosts)
-        mosts.append(1 + sum(mosts[at - less] for less in range(1, min(calls or at, at) + 1)))
-    return mosts[ticks]
-
-
-def parted(kind, count):
-    """The PARTS of one who is handed the numbers from 1 to count, by the document's words, each as a list."""
-    word = kind[0]
-    rest = list(range(1, count + 1))
-    parts = []
-    if word == "parts":
-        many = min(kind[1], count)
-        for at in range(many):
-            size = -(-len(rest) // (many - at))
-            parts.append(rest[:size])
-            rest = rest[size:]
-    if word == "half":
-        while rest:
-            size = (len(rest) + 1) // 2
-            parts.append(rest[:size])
-            rest = rest[size:]
-    if word == "best":
-        ticks = next(ticks for ticks in range(count + 1) if most(kind[1], ticks) >= count + 1)
-        at = 1
-        while rest:
-            size = most(kind[1], ticks - at)
-            parts.append(rest[:size])
-            rest = rest[size:]
-            at += 1
-    if word == "heap":
-        heads = {0: 0}
-        for person in rest:
-            above = (person - 1) // kind[1]
-            heads[person] = person if above == 0 else heads[above]
-        parts = [[person for person in rest if heads[person] == head] for head in range(1, min(kind[1], count) + 1)]
-    return parts
 
 
 def far_heap(degree, count):
@@ -137,13 +95,13 @@ class Sizes(unittest.TestCase):
     def test_all_kinds_against_a_plain_parting(self):
         for kind in KINDS:
             for count in list(range(200)) + [255, 256, 257, 363, 364, 365, 400, 511, 584, 585]:
-                parts = parted(kind, count)
+                parts = parted(kind, 0, list(range(1, count + 1)))
                 self.assertEqual(sizes(kind, count), tuple(map(len, parts)), (kind, count))
 
     def test_the_plain_parting_takes_everybody_once(self):
         for kind in KINDS:
             for count in range(60):
-                self.assertEqual(sorted(sum(parted(kind, count), [])), list(range(1, count + 1)))
+                self.assertEqual(sorted(sum(parted(kind, 0, list(range(1, count + 1))), [])), list(range(1, count + 1)))
 
     def check_sum(self, kind, count, parts):
         self.assertIs(type(parts), tuple)
@@ -188,7 +146,7 @@ class Sizes(unittest.TestCase):
     def test_the_far_heap_itself_against_the_plain_parting(self):
         for degree in range(2, 9):
             for count in range(300):
-                plain = tuple(map(len, parted(("heap", degree), count)))
+                plain = tuple(map(len, parted(("heap", degree), 0, list(range(1, count + 1)))))
                 self.assertEqual(far_heap(degree, count), plain, (degree, count))
 
     def test_known_ones(self):

@@ -44,13 +44,22 @@ BAD_KINDS = [(thing, BadKind, "form") for thing in (
     ("heap", 2.0), ("parts", None), ("parts", (2,)), ("parts", [2]), ("parts", 2, 2), ("heap", 2, None), ("best", 10 ** 999),
 )]
 
+# None of these is a LOT of any number of people up to 10 ** 30.
+NO_LOTS = [
+    True, False, "1", "", b"", None, [], [1], {}, {1}, {1: 2}, 0, 1, -1, range(1, 2), 1.0, (0,), (-1,), (0, 1), (FAR,), (1, FAR),
+    (10 ** 999,), (True,), (True, 2), (1, True), ("1",), (1, "2"), (None,), (1, None), ([1],), ((1,),), (1.0,), (1, 2.0), (1, 1),
+    (2, 1), (1, 3, 2), (1, 2, 2), (3, 2, 1), (1, 2, 3, 4), (4, 3, 2, 1), ((),),
+]
+BAD_LOTS = [(thing, OutOfPlace, None) for thing in NO_LOTS]
+BAD_MISSING = [(thing, OutOfPlace, None) for thing in NO_NUMBERS + [4, 5, FAR]]
+
 BAD = {
     "rule": BAD_RULES, "absent": BAD_ABSENCES, "person": BAD_PERSONS, "people": BAD_PEOPLE, "away": BAD_AWAYS,
-    "scaled": BAD_SCALED, "kind": BAD_KINDS, "count": BAD_PERSONS,
+    "scaled": BAD_SCALED, "kind": BAD_KINDS, "count": BAD_PERSONS, "lot": BAD_LOTS, "missing": BAD_MISSING,
 }
 GOOD = {
     "rule": (1, 2), "absent": (3,), "person": 5, "people": 6, "away": 1, "scaled": (2, (0, 1)), "kind": ("parts", 2),
-    "count": 7,
+    "count": 7, "lot": (2, 4), "missing": 2,
 }
 
 
