@@ -37,6 +37,27 @@ INTERFACE = {
     },
     "best": {"least_tick": ("people", "calls"), "is_best": ("kind", "people"), "best_kinds": ("people",)},
     "backs": {"back_tick": ("kind", "people", "lot"), "ready_at": ("kind", "people", "lot", "person")},
+    "logs": {
+        "fitting": ("kind", "people", "missing", "log"), "is_clear": ("kind", "people", "missing", "log"),
+        "log_of": ("kind", "people", "lot"),
+    },
+    "trees": {"Tree": ("kind", "people"), "under": ("tree", "deed")},
+    "texts": {
+        "rule_text": ("rule",), "scaled_text": ("scaled",), "kind_text": ("kind",), "read_rule": ("string",),
+        "read_scaled": ("string",), "read_kind": ("string",),
+    },
+    "desk": {"Desk": ()},
+}
+METHODS = {
+    "trees": {"Tree": {
+        "__call__": "(self, ticks=1)", "miss": "(self, person)", "there": "(self, person)", "__len__": "(self)",
+        "back": "(self, *, many=1)", "copy": "(self)", "trial": "(self)",
+    }},
+    "desk": {"Desk": {"say": "(self, line)"}},
+}
+OPERATORS = {"trees": {"Tree": ("__contains__", "__eq__")}}
+PROPERTIES = {
+    "trees": {"Tree": ("kind", "people", "tick", "told", "missing", "is_done")}, "desk": {"Desk": ("rule", "scaled", "kind")},
 }
 
 
@@ -49,6 +70,23 @@ class Interface(unittest.TestCase):
                     thing = getattr(module, name)
                     self.assertEqual(thing.__module__, module.__name__)
                     self.assertEqual(tuple(inspect.signature(thing).parameters), arguments)
+
+    def test_each_method_is_defined_in_its_class_with_its_arguments(self):
+        for file, classes in METHODS.items():
+            for name, methods in classes.items():
+                own = vars(getattr(importlib.import_module("callsdown." + file), name))
+                for method, arguments in methods.items():
+                    self.assertEqual(str(inspect.signature(own[method])), arguments, (name, method))
+
+    def test_each_operator_and_property_is_defined_in_its_class(self):
+        for file, classes in PROPERTIES.items():
+            for name, listed in classes.items():
+                own = vars(getattr(importlib.import_module("callsdown." + file), name))
+                for one in listed:
+                    self.assertIsInstance(own[one], property)
+                    self.assertIsNone(own[one].fset)
+                for one in OPERATORS.get(file, {}).get(name, ()):
+                    self.assertIn(one, own)
 
 
 if __name__ == "__main__":
