@@ -20,9 +20,9 @@ def ready_at(kind, people, lot, person):
     return tick + _ready_behind(kind, lot, person, count)
 
 
-def _ready_behind(kind, lot, person, count):
+def _ready_behind(kind, lot, person, handed):
     """How many ticks behind their own one the person, who is handed so many, is READY."""
-    mixed, whole = spread(kind, lot, person, count)
+    mixed, whole = spread(kind, lot, person, handed)
     # Each call back takes a tick, so whoever is so many hops away is heard of as many ticks later.
     costs = longest(kind, [count for _, _, count in whole], 1)
     ready = [tick + hops + calls for tick, hops, calls in mixed]

@@ -10,7 +10,7 @@ MOST_TICKS = 5000
 # None of these can be called.
 NO_DEEDS = (
     "NoneType", "bool", "int", "float", "complex", "str", "bytes", "bytearray",
-    "list", "tuple", "dict", "set", "frozenset", "range",
+    "list", "tuple", "dict", "set", "frozenset", "range", "object",
 )
 
 

@@ -413,7 +413,9 @@ class Trials(Case):
             refuse(self, lambda: under(thing, called.append), OutOfPlace, None)
             refuse(self, lambda: under(thing, None), OutOfPlace, None)
             self.assertEqual(called, [])
-        for thing in (None, True, 1, "len", b"", [], (), {}, {1}, 1.5, range(2)):
+        for thing in (
+            None, True, 1, "len", b"", bytearray(), [], (), {}, {1}, frozenset(), 1.5, 1j, range(2), object(),
+        ):
             refuse(self, lambda: under(tree, thing), OutOfPlace, None)
             refuse(self, lambda: under(deed=thing, tree=tree), OutOfPlace, None)
 
